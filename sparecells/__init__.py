@@ -1,0 +1,1 @@
+"""sparecells: an image made into another one in its own cells, cut anywhere."""

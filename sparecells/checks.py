@@ -1,0 +1,56 @@
+"""What arguments have to be.
+
+Here a recipe is only asked for its size, never judged: recipes.py imports this
+file, so this file cannot import the class Recipe.
+"""
+from sparecells.errors import InvalidBound, InvalidLot, InvalidOrder
+
+
+def is_count(value):
+    """Whether any object is a count."""
+    # Python takes True and False for integers, the package does not.
+    return isinstance(value, int) and not isinstance(value, bool) and value >= 0
+
+
+def is_count_below(value, limit):
+    """Whether any object is a count less than a limit."""
+    return is_count(value) and value < limit
+
+
+def is_ascending_below(value, limit):
+    """Whether any object is an ascending list of counts less than a limit."""
+    if not isinstance(value, list):
+        return False
+    last = -1
+    for item in value:
+        if not is_count_below(item, limit) or item <= last:
+            return False
+        last = item
+    return True
+
+
+def is_each_below_once(value, limit):
+    """Whether any object is a list of all counts less than a limit, each once."""
+    if not isinstance(value, list) or len(value) != limit:
+        return False
+    if not all([is_count_below(item, limit) for item in value]):
+        return False
+    return len(set(value)) == limit
+
+
+def check_lot(recipe, lot):
+    """Raise InvalidLot unless something is a lot of a recipe."""
+    if not is_ascending_below(lot, recipe.size()):
+        raise InvalidLot(lot)
+
+
+def check_order(recipe, order):
+    """Raise InvalidOrder unless something is an order of a recipe."""
+    if not is_each_below_once(order, recipe.size()):
+        raise InvalidOrder(order)
+
+
+def check_bound(bound):
+    """Raise InvalidBound unless something is a bound."""
+    if not is_count(bound):
+        raise InvalidBound(bound)

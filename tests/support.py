@@ -1,0 +1,107 @@
+"""What several tests share: recipes to try, a plain count of their own, and any objects."""
+import random
+from itertools import combinations, permutations
+
+from sparecells import errors
+from sparecells.recipes import Recipe
+
+CHAIN = (3, [[0, 1], [1, 2], [2]])
+TREE = (5, [[0, 1, 2], [3, 4], [0], [3]])
+
+
+def some_needs(chance, many, size):
+    rows = []
+    for _ in range(size):
+        share = chance.random()
+        rows.append([old for old in range(many) if chance.random() < share])
+    return rows
+
+
+def every_pair(most_old, most_new):
+    """All recipes of so many blocks at most, as tuples of their two arguments."""
+    pairs = []
+    for many in range(most_old + 1):
+        rows = [list(row) for size in range(many + 1) for row in combinations(range(many), size)]
+        todo = [[]]
+        for _ in range(most_new):
+            todo = [head + [row] for head in todo for row in rows]
+            pairs.extend([(many, needs) for needs in todo])
+    return pairs
+
+
+def small_pairs():
+    """Recipes for tests that go through all lots and orders by a plain count."""
+    chance = random.Random(2026)
+    pairs = [CHAIN, TREE, (0, [[]]), (1, [[]]), (3, [[], [], []]), (2, [[], [0, 1], []]), (3, [[1], [1], [1]])]
+    pairs.extend(every_pair(2, 2))
+    for many in range(7):
+        for size in range(1, 6):
+            pairs.append((many, some_needs(chance, many, size)))
+    return pairs
+
+
+def great_pairs():
+    """Recipes at the limits: 8 new and 8 old blocks."""
+    chance = random.Random(88)
+    pairs = [(8, [[block] for block in range(8)]), (8, [list(range(8)) for _ in range(8)])]
+    pairs.append((8, [[old for old in range(8) if abs(old - block) < 2] for block in range(8)]))
+    pairs.append((8, some_needs(chance, 8, 8)))
+    return pairs
+
+
+def plain_lots(size):
+    """All lots of so many new blocks, ascending."""
+    return sorted(list(lot) for many in range(size + 1) for lot in combinations(range(size), many))
+
+
+def plain_needed(needs, lot):
+    return [old for old in range(100) if any(old in row for block, row in enumerate(needs) if block not in lot)]
+
+
+def plain_held(needs, lot):
+    return len(lot) + len(plain_needed(needs, lot))
+
+
+def plain_width_of(needs, order, memo):
+    width = 0
+    for at in range(len(order)):
+        lot = frozenset(order[:at])
+        if lot not in memo:
+            memo[lot] = plain_held(needs, lot)
+        width = max(width, memo[lot])
+    return width
+
+
+def plain_orders(needs):
+    """All orders, ascending, each with its width."""
+    memo = {}
+    return [(list(order), plain_width_of(needs, order, memo)) for order in permutations(range(len(needs)))]
+
+
+def any_objects():
+    """Objects of all kinds that a caller may pass."""
+    recipe = Recipe(1, [[0]])
+    plain = [None, True, False, -1, 0, 1, 2, 3, 7, 60, 10 ** 30, -10 ** 30, "", "0", "[0]", "lot", "a\tb\n~"]
+    lists = [[], [0], [1], [2], [0, 1], [1, 0], [0, 1, 2], [2, 1, 0], [0, 2, 1], [0, 0], [1, 1], [0, 1, 1], [0, 2]]
+    odd = [[True], [False], [0, True], [False, 1], [False, True], [True, False], [-1], [-1, 0], [99], [0, 99]]
+    odd += [[None], [0, None], ["0"], [0, "1"], [[]], [[0]], [[0], [1]], [0, [1]], [(0,)], [{}], [10 ** 30]]
+    other = [(), (0,), (0, 1), (1, 0), (0, 1, 2), ([0],), ((),), {}, {0: 0}, {0: [0]}, {"many": 1}, {(1, 2): None}]
+    own = [recipe, [recipe], (recipe,), {"recipe": recipe}, errors.CellsError(), errors.InvalidLot([0])]
+    own += [[errors.Refused()], errors.NothingToUndo()]
+    deep = []
+    for _ in range(39):
+        deep = [deep]
+    return plain + lists + odd + other + own + [deep]
+
+
+class ErrorChecks:
+    """For test cases: what a call raises, by its very class and its very object."""
+
+    def assert_error(self, error, value, function, *arguments):
+        try:
+            result = function(*arguments)
+        except errors.CellsError as caught:
+            self.assertIs(type(caught), error, (function.__name__, arguments))
+            self.assertIs(caught.value, value, (function.__name__, arguments))
+        else:
+            self.fail(f"{function.__name__}{arguments} returned {result}")
