@@ -1,9 +1,9 @@
 """What arguments have to be.
 
-Here a recipe is only asked for its size, never judged: recipes.py imports this
-file, so this file cannot import the class Recipe.
+Here a recipe is only asked for its numbers of blocks, never judged: recipes.py
+imports this file, so this file cannot import the class Recipe.
 """
-from sparecells.errors import InvalidBound, InvalidLot, InvalidOrder
+from sparecells.errors import InvalidBound, InvalidCells, InvalidLot, InvalidOrder
 
 
 def is_count(value):
@@ -29,13 +29,18 @@ def is_ascending_below(value, limit):
     return True
 
 
-def is_each_below_once(value, limit):
-    """Whether any object is a list of all counts less than a limit, each once."""
-    if not isinstance(value, list) or len(value) != limit:
+def are_different_below(value, limit):
+    """Whether any object is a list of different counts less than a limit."""
+    if not isinstance(value, list):
         return False
     if not all([is_count_below(item, limit) for item in value]):
         return False
-    return len(set(value)) == limit
+    return len(set(value)) == len(value)
+
+
+def is_each_below_once(value, limit):
+    """Whether any object is a list of all counts less than a limit, each once."""
+    return are_different_below(value, limit) and len(value) == limit
 
 
 def check_lot(recipe, lot):
@@ -48,6 +53,18 @@ def check_order(recipe, order):
     """Raise InvalidOrder unless something is an order of a recipe."""
     if not is_each_below_once(order, recipe.size()):
         raise InvalidOrder(order)
+
+
+def check_road(recipe, lot, road):
+    """Raise InvalidOrder unless something is a list of different new blocks that a lot has not."""
+    if not are_different_below(road, recipe.size()) or any([block in lot for block in road]):
+        raise InvalidOrder(road)
+
+
+def check_cells(recipe, cells):
+    """Raise InvalidCells unless something is a number of cells that hold the old image, at least one."""
+    if not is_count(cells) or cells < max(1, recipe.many()):
+        raise InvalidCells(cells)
 
 
 def check_bound(bound):

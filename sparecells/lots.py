@@ -28,9 +28,19 @@ def gain(recipe, one, other):
     check_recipe(recipe)
     check_lot(recipe, one)
     check_lot(recipe, other)
-    either = sorted(set(one) | set(other))
-    both = sorted(set(one) & set(other))
+    either = either_lot(one, other)
+    both = both_lot(one, other)
     return held(recipe, one) + held(recipe, other) - held(recipe, either) - held(recipe, both)
+
+
+def either_lot(one, other):
+    """The lot of the blocks of either of two lots."""
+    return sorted(set(one) | set(other))
+
+
+def both_lot(one, other):
+    """The lot of the blocks that both of two lots have."""
+    return sorted(set(one) & set(other))
 
 
 def floors(recipe):

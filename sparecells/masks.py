@@ -11,6 +11,14 @@ def lot_of(mask):
     return [block for block in range(mask.bit_length()) if has(mask, block)]
 
 
+def mask_of(lot):
+    """The mask of a lot."""
+    mask = 0
+    for block in lot:
+        mask = with_block(mask, block)
+    return mask
+
+
 def has(mask, block):
     """Whether the lot of a mask has a block."""
     return (mask >> block) & 1 == 1
@@ -19,6 +27,11 @@ def has(mask, block):
 def with_block(mask, block):
     """The mask of the lot with one block more."""
     return mask | (1 << block)
+
+
+def without_block(mask, block):
+    """The mask of the lot with one block less, a block that it has."""
+    return mask - (1 << block)
 
 
 def ones(mask):

@@ -62,6 +62,11 @@ def plain_held(needs, lot):
     return len(lot) + len(plain_needed(needs, lot))
 
 
+def plain_holds(needs):
+    """What each lot holds, by its tuple."""
+    return {tuple(lot): plain_held(needs, lot) for lot in plain_lots(len(needs))}
+
+
 def plain_width_of(needs, order, memo):
     width = 0
     for at in range(len(order)):
@@ -91,7 +96,30 @@ def any_objects():
     deep = []
     for _ in range(39):
         deep = [deep]
-    return plain + lists + odd + other + own + [deep]
+    return plain + lists + odd + other + own + [deep] + cell_objects() + row_objects()
+
+
+def cell_objects():
+    """Objects that are, or nearly are, contents, states, deeds or courses."""
+    contents = [("old", 0), ("new", 0), ("old", 1), ("new", 2), ("old", 99), ("new", -1), ("old", True), ("new", None)]
+    contents += [("Old", 0), ("none",), ("old",), ("old", 0, 0), (None, 0), (0, "old"), ["new", 0], ("new", [0])]
+    deeds = [("make", 0, 0), ("make", 0, 1), ("make", 1, 0), ("copy", 0, 1), ("copy", 1, 0), ("copy", 0, 0)]
+    deeds += [("make", 0, 99), ("make", 99, 0), ("copy", 99, 0), ("copy", 0, 99), ("make", 0, -1), ("copy", -1, 0)]
+    deeds += [("make", True, 0), ("make", 0, False), ("copy", False, 1), ("make", 0), ("make", 0, 0, 0), ("make",)]
+    deeds += [["make", 0, 0], ["copy", 0, 1], ("lead", 0, 1), ("cut", ("make", 0, 0)), ("Make", 0, 0), (None, 0, 0)]
+    deeds += [("make", "0", 0), ("make", 0, None), ("copy", [0], 1), ("make", (0,), 0), (("make",), 0, 0), ("", 0, 0)]
+    several = [[None, None], [("old", 0), None], [("new", 0), ("old", 0)], [None, True], [None, ["old", 0]]]
+    several += [[("make", 0, 0), ("copy", 0, 0)], [("copy", 0, 1), ["copy", 0, 1]], (("make", 0, 0),), (None,)]
+    return contents + deeds + [[thing] for thing in contents + deeds] + several
+
+
+def row_objects():
+    """Objects that are, or nearly are, rows of lots, lists of rows or barriers."""
+    rows = [[[], [0]], [[], []], [[], [0], [0, 1]], [[], [1], [0, 1]], [[], [0], [], [1], [0, 1]], [[0], [0, 1]]]
+    rows += [[[], [], [0]], [[], [0, 1]], [[], [1, 0]], [[], (0,)], ([], [0]), [(), (0,)], [[], [True]]]
+    rows += [[[], [0], None], [[False], [0]], [[], [0], [0]], [[], [0], [-1, 0]], [[], [0], [0, 0]], [[], [[0]]]]
+    rows += [[[], [0], [0, 1], [0, 1, 2]], [[], [0], [0, 2], [0, 1, 2]], [[], [2], [0], [0, 1], [0, 1, 2], [0, 1, 2]]]
+    return rows + [[row] for row in rows] + [[[], [0], [1], [2]], [[0], []], [[1]], [[2], [2]], [[], [[]]]]
 
 
 class ErrorChecks:

@@ -3,8 +3,11 @@ import copy
 import inspect
 import unittest
 
-from sparecells import errors, lots, orders, recipes
+from sparecells import barriers, courses, errors, lots, orders, recipes, rests, straightening
 from sparecells.recipes import Recipe
+from tests.plain import (
+    is_below, is_plain_course, is_plain_deed, is_plain_lot, is_plain_order, is_plain_recipe, is_plain_road,
+    is_plain_row, is_plain_state, is_whole)
 from tests.support import CHAIN, TREE, ErrorChecks, any_objects, plain_held, plain_lots
 
 # The functions with the parameters of the interface; a parameter's kind stands behind a colon if it is not its name.
@@ -23,11 +26,32 @@ INTERFACE = {
         "least_cells recipe", "spare_cells recipe", "full_width recipe", "loose_cells recipe",
         "lasting_cells recipe", "turned_order recipe order",
     ],
+    barriers: [
+        "is_barrier recipe bound value", "reached recipe bound", "barrier recipe bound", "way_to recipe bound lot",
+        "is_way_to recipe bound lot value", "stuck_lots recipe bound", "border recipe bound",
+    ],
+    rests: [
+        "is_rest recipe lot wider", "rests recipe lot", "height recipe lot road", "least_height recipe lot wider",
+        "best_road recipe lot wider", "is_best_road recipe lot wider value", "led_through recipe order lot road",
+        "is_sink recipe lot", "sinks recipe",
+    ],
+    straightening: [
+        "is_row recipe value", "row_width recipe row", "is_step recipe row value", "loses_nothing recipe row",
+        "straightened recipe row", "is_straightened recipe row value", "order_of recipe row",
+    ],
+    courses: [
+        "is_state recipe value", "first_state recipe cells", "is_made recipe state", "why_wrong recipe state deed",
+        "behind recipe state deed", "is_course recipe cells value", "first_wrong recipe cells course",
+        "states recipe cells course", "makes_image recipe cells course", "lacking recipe state", "lost recipe state",
+        "lots_passed recipe cells course", "busiest recipe cells course",
+    ],
 }
 ERRORS = {
     "recipe": errors.InvalidRecipe, "new": errors.InvalidBlock, "old": errors.InvalidBlock, "lot": errors.InvalidLot,
     "order": errors.InvalidOrder, "size": errors.InvalidCount, "bound": errors.InvalidBound,
-    "number": errors.InvalidCount,
+    "number": errors.InvalidCount, "wider": errors.InvalidLot, "road": errors.InvalidOrder, "row": errors.InvalidRow,
+    "cells": errors.InvalidCells, "state": errors.InvalidContent, "deed": errors.InvalidDeed,
+    "course": errors.InvalidCourse,
 }
 # In the first one a block needs nothing and an old block is idle; the last one has no old block.
 PAIRS = [(4, [[0, 1], [1, 2], []]), CHAIN, TREE, (1, [[0]]), (0, [[], []])]
@@ -41,57 +65,73 @@ def functions():
             yield getattr(module, name), [part[0] for part in parts], [part[1] for part in parts]
 
 
-def is_whole(thing):
-    return type(thing) is int
-
-
-def fits(kind, recipe, thing):
-    """Whether an object is of a kind, judged apart from the package."""
-    size = recipe.size()
+def fits(kind, ahead, thing):
+    """Whether an object is of a kind behind the arguments ahead of it, judged apart from the package."""
     if kind == "recipe":
-        return type(thing) is Recipe
-    if kind in ("lot", "order"):
-        if type(thing) is not list or not all(is_whole(item) for item in thing):
-            return False
-        wanted = list(range(size)) if kind == "order" else [block for block in range(size) if block in thing]
-        return (sorted(thing) if kind == "order" else thing) == wanted
-    if not is_whole(thing) or thing < 0:
-        return False
-    limits = {"new": size, "old": recipe.many(), "size": size + 1, "bound": thing + 1}
-    return thing < limits[kind]
+        return is_plain_recipe(thing)
+    recipe, last = ahead[0], ahead[-1]
+    size = recipe.size()
+    judges = {
+        "value": lambda: True,
+        "new": lambda: is_below(thing, size),
+        "old": lambda: is_below(thing, recipe.many()),
+        "size": lambda: is_below(thing, size + 1),
+        "bound": lambda: is_whole(thing) and thing >= 0,
+        "number": lambda: thing == 0 and last >= recipe.many() + size,
+        "lot": lambda: is_plain_lot(size, thing),
+        "wider": lambda: is_plain_lot(size, thing),
+        "order": lambda: is_plain_order(size, thing),
+        "road": lambda: is_plain_road(size, last, thing),
+        "row": lambda: is_plain_row(size, thing),
+        "cells": lambda: is_whole(thing) and thing >= max(1, recipe.many()),
+        "state": lambda: is_plain_state(recipe, thing),
+        "deed": lambda: is_plain_deed(recipe, len(last), thing),
+        "course": lambda: is_plain_course(recipe, last, thing),
+    }
+    return judges[kind]()
 
 
-def wrong_things(kind, recipe):
+def wrong_things(kind, ahead):
     if kind == "number":
-        return [None, True, False, -1, 10 ** 30, "0", [], [0], (0,), {}, recipe]
-    return [thing for thing in any_objects() if not fits(kind, recipe, thing)]
+        return [None, True, False, -1, 10 ** 30, "0", [], [0], (0,), {}, ahead[0]]
+    return [thing for thing in any_objects() if not fits(kind, ahead, thing)]
 
 
 def good_things(kind, recipe):
-    size = recipe.size()
-    if kind == "recipe":
-        return [recipe]
-    if kind == "lot":
-        return [[], list(range(size - 1)), [size - 1][:size - 1]]
-    if kind == "order":
-        return [list(range(size)), list(range(size))[::-1]]
-    if kind in ("new", "number", "value"):
-        return [0]
-    if kind == "old":
-        return list(range(recipe.many()))[:1]
-    return {"size": [0, size], "bound": [recipe.many() + size, 10 ** 30]}[kind]
+    """Some objects of a kind; some of them are none behind some arguments."""
+    many, size = recipe.many(), recipe.size()
+    straight = [list(range(at)) for at in range(size + 1)]
+    state = [("old", block) for block in range(many)] + [None, ("new", 0)]
+    things = {
+        "recipe": [recipe], "value": [0], "new": [0], "old": [0], "size": [0, size], "number": [0],
+        "bound": [many + size, 10 ** 30, max(many - 1, 0)],
+        "lot": [[], list(range(size - 1)), [size - 1][:size - 1]],
+        "wider": [list(range(size)), []],
+        "order": [list(range(size)), list(range(size))[::-1]],
+        "road": [[], list(range(size)), [size - 1]],
+        "row": [straight, straight[:2] + straight],
+        "cells": [max(1, many), many + 2],
+        "state": [state, [None]],
+        "deed": [("make", 0, many), ("make", size - 1, 0), ("copy", many + 1, many), ("copy", 0, 0)],
+        "course": [[], [("make", 0, many)], [("make", 0, many), ("copy", many, many + 1)], [("copy", 0, 0)]],
+    }
+    return things[kind]
 
 
 def good_calls(kinds, recipe):
     calls = [[]]
     for kind in kinds:
-        calls = [call + [thing] for call in calls for thing in good_things(kind, recipe)]
+        calls = [call + [thing] for call in calls for thing in good_things(kind, recipe) if fits(kind, call, thing)]
     # Each call gets lists of its own, as some are changed by the tests.
     return [copy.deepcopy(call) for call in calls]
 
 
-def is_refused(function, recipe):
-    return recipe.many() == 0 and function in (recipes.turned, orders.turned_order)
+def is_refused(function, call):
+    try:
+        function(*call)
+    except errors.Refused:
+        return True
+    return False
 
 
 def shown(things):
@@ -126,7 +166,7 @@ class InterfaceTest(unittest.TestCase):
         for function, names, kinds in functions():
             for pair in PAIRS:
                 for call in good_calls(kinds, Recipe(*pair)):
-                    if not is_refused(function, call[0]):
+                    if not is_refused(function, call):
                         self.assertEqual(function(**dict(zip(names, call))), function(*call))
 
 
@@ -141,12 +181,14 @@ class WrongArgumentsTest(ErrorChecks, unittest.TestCase):
     def check_wrong_at(self, function, kinds, call, at, kind):
         if kind == "value":
             return
-        recipe = call[0]
-        for wrong in wrong_things(kind, recipe):
+        before = shown(call)
+        for wrong in wrong_things(kind, call[:at]):
             head = call[:at] + [wrong]
+            told = shown(head)
             self.assert_error(ERRORS[kind], wrong, function, *head, *call[at + 1:])
             for others in (None, True, [True], (), "0", [[0]], -1):
                 self.assert_error(ERRORS[kind], wrong, function, *head, *[others for _ in kinds[at + 1:]])
+            self.assertEqual((shown(call), shown(head)), (before, told))
 
     def test_blocks_at_the_edges(self):
         recipe = Recipe(2, [[0], [1], []])
@@ -185,21 +227,26 @@ class WrongArgumentsTest(ErrorChecks, unittest.TestCase):
             self.assert_error(errors.InvalidLot, lot, recipes.without, bare, lot)
 
     def test_judges_raise_no_error_for_any_object(self):
-        for pair in PAIRS:
-            recipe = Recipe(*pair)
-            for judge in (lots.is_lot, orders.is_order, orders.is_best_order):
+        judges = [(function, kinds) for function, names, kinds in functions() if names[-1] == "value"]
+        self.assertEqual(len(judges), 3 + 2 + 1 + 3 + 2)
+        for judge, kinds in judges:
+            for call in [call for pair in PAIRS for call in good_calls(kinds[:-1], Recipe(*pair))]:
                 for thing in any_objects():
-                    self.assertIs(type(judge(recipe, thing)), bool)
-                self.assertIs(judge(recipe, None), False)
+                    self.assertIs(type(judge(*call, thing)), bool)
+                self.assertIs(judge(*call, None), False)
 
 
 class UnchangedTest(ErrorChecks, unittest.TestCase):
     def test_arguments_stay_and_results_are_new(self):
+        checked = set()
         for function, _, kinds in functions():
             for pair in PAIRS:
                 for call in good_calls(kinds, Recipe(*pair)):
-                    if not is_refused(function, call[0]):
+                    if not is_refused(function, call):
                         self.check_call(function, call)
+                        checked.add(function)
+        # What is refused here and there is not refused everywhere.
+        self.assertEqual(checked, {function for function, _, _ in functions()})
 
     def check_call(self, function, call):
         before = copy.deepcopy(call)
@@ -230,7 +277,7 @@ class UnchangedTest(ErrorChecks, unittest.TestCase):
     def test_calls_that_raise_change_nothing(self):
         for function, _, kinds in functions():
             chain = Recipe(*CHAIN)
-            for things in ([[0, 0], [1, 0]], [[True], [False]], [{}, {}]):
+            for things in ([[0, 0], [1, 0], [0], [2]], [[True], [False], [True], [[]]], [{}, {}, {}, {}]):
                 passed = copy.deepcopy(things)[:len(kinds) - 1]
                 try:
                     function(chain, *passed)
