@@ -3,7 +3,7 @@
 Here a recipe is only asked for its numbers of blocks, never judged: recipes.py
 imports this file, so this file cannot import the class Recipe.
 """
-from sparecells.errors import InvalidBound, InvalidCells, InvalidLot, InvalidOrder
+from sparecells.errors import InvalidBound, InvalidCell, InvalidCells, InvalidCount, InvalidLot, InvalidOrder
 
 
 def is_count(value):
@@ -17,16 +17,21 @@ def is_count_below(value, limit):
     return is_count(value) and value < limit
 
 
-def is_ascending_below(value, limit):
-    """Whether any object is an ascending list of counts less than a limit."""
+def is_ascending(value):
+    """Whether any object is an ascending list of counts."""
     if not isinstance(value, list):
         return False
     last = -1
     for item in value:
-        if not is_count_below(item, limit) or item <= last:
+        if not is_count(item) or item <= last:
             return False
         last = item
     return True
+
+
+def is_ascending_below(value, limit):
+    """Whether any object is an ascending list of counts less than a limit."""
+    return is_ascending(value) and all([item < limit for item in value])
 
 
 def are_different_below(value, limit):
@@ -65,6 +70,24 @@ def check_cells(recipe, cells):
     """Raise InvalidCells unless something is a number of cells that hold the old image, at least one."""
     if not is_count(cells) or cells < max(1, recipe.many()):
         raise InvalidCells(cells)
+
+
+def check_some_cells(cells):
+    """Raise InvalidCells unless something is a number of cells, at least one, whatever they are to hold."""
+    if not is_count(cells) or cells < 1:
+        raise InvalidCells(cells)
+
+
+def check_cell(cells, cell):
+    """Raise InvalidCell unless something is one of so many cells."""
+    if not is_count_below(cell, cells):
+        raise InvalidCell(cell)
+
+
+def check_count_from(value, least):
+    """Raise InvalidCount unless something is a count, and at least so great."""
+    if not is_count(value) or value < least:
+        raise InvalidCount(value)
 
 
 def check_bound(bound):

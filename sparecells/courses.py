@@ -1,6 +1,6 @@
 """Courses: deeds one behind the other on the cells, which are right, and what they come to."""
 from sparecells.checks import check_cells
-from sparecells.deeds import are_contents, are_deeds, but_for, is_deed, new_in, state_behind, wrongs_of
+from sparecells.deeds import are_contents, are_deeds, but_for, is_deed, new_in, right_states, state_behind, wrongs_of
 from sparecells.errors import InvalidContent, InvalidCourse, InvalidDeed, Refused
 from sparecells.lots import held
 from sparecells.recipes import check_recipe
@@ -49,22 +49,15 @@ def is_course(recipe, cells, value):
 def first_wrong(recipe, cells, course):
     """The position of the first deed of a course that is not right, None if it is right."""
     check_course(recipe, cells, course)
-    state = first_state(recipe, cells)
-    for at, deed in enumerate(course):
-        if wrongs_of(recipe, state, deed):
-            return at
-        state = state_behind(state, deed)
-    return None
+    last = len(right_states(recipe, first_state(recipe, cells), course)) - 1
+    return None if last == len(course) else last
 
 
 def states(recipe, cells, course):
     """The list of the states ahead of each deed of a right course and behind the last one."""
     if first_wrong(recipe, cells, course) is not None:
         raise Refused(course)
-    found = [first_state(recipe, cells)]
-    for deed in course:
-        found.append(state_behind(found[-1], deed))
-    return found
+    return right_states(recipe, first_state(recipe, cells), course)
 
 
 def makes_image(recipe, cells, course):

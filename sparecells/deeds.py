@@ -61,8 +61,35 @@ def but_for(state, cell):
 def state_behind(state, deed):
     """The state behind a deed that is right."""
     word, source, cell = deed
-    content = ("new", source) if word == "make" else state[source]
+    return _written(state, cell, ("new", source) if word == "make" else state[source])
+
+
+def state_cut(state, deed):
+    """The state in which the power fell amid a deed."""
+    return _written(state, deed[2], None)
+
+
+def state_behind_any(recipe, state, deed):
+    """The state behind a deed, right or not: a make that lacks a block makes nothing of worth."""
+    word, source, _ = deed
+    if word == "make" and any([("old", old) not in state for old in needs_of(recipe, source)]):
+        return state_cut(state, deed)
+    return state_behind(state, deed)
+
+
+def _written(state, cell, content):
+    """The state with other content in one cell."""
     return state[:cell] + [content] + state[cell + 1:]
+
+
+def right_states(recipe, state, deeds):
+    """The states from one on, ahead of each deed and behind the last, up to that in which a deed is not right."""
+    passed = [list(state)]
+    for deed in deeds:
+        if wrongs_of(recipe, passed[-1], deed):
+            break
+        passed.append(state_behind(passed[-1], deed))
+    return passed
 
 
 def new_in(contents):

@@ -61,6 +61,16 @@ def all_held(recipe):
     return [ones(mask) + ones(covers[last - mask]) for mask in range(len(covers))]
 
 
+def heights_to(table, end):
+    """The table of the least heights of the roads from lots within the lot of a mask to it."""
+    heights = list(table)
+    for mask in reversed(range(end)):
+        if mask & end == mask:
+            onward = [heights[with_block(mask, block)] for block in lot_of(end - mask)]
+            heights[mask] = max(heights[mask], min(onward))
+    return heights
+
+
 def _rows(recipe):
     """For each new block the mask of what it needs, the old blocks numbered as they come."""
     # Only the blocks that are needed get a place, so idle ones cost nothing, however many they are.

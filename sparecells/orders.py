@@ -2,7 +2,7 @@
 from sparecells.checks import check_bound, check_order, is_count_below, is_each_below_once
 from sparecells.errors import InvalidCount, Refused
 from sparecells.lots import held
-from sparecells.masks import all_held, has, lacking_blocks, with_block
+from sparecells.masks import all_held, has, heights_to, lacking_blocks, with_block
 from sparecells.recipes import check_recipe, users_of
 
 
@@ -27,13 +27,14 @@ def width_of(recipe, order):
 def width(recipe):
     """The width of a recipe, the least of all its orders' widths."""
     check_recipe(recipe)
+    return widths_on(recipe)[0]
+
+
+def widths_on(recipe):
+    """The table of the least widths with which lots are gone on from, 0 for that of all blocks."""
     table = all_held(recipe)
-    # From the lot of all blocks backwards: the least width with which a lot is gone on from.
-    widths = [0] * len(table)
-    for mask in reversed(range(len(table) - 1)):
-        behind = [widths[with_block(mask, block)] for block in lacking_blocks(mask, recipe.size())]
-        widths[mask] = max(table[mask], min(behind))
-    return widths[0]
+    # What the lot of all blocks holds is no price of an order.
+    return heights_to(table[:-1] + [0], len(table) - 1)
 
 
 def best_order(recipe):

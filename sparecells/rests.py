@@ -2,7 +2,7 @@
 from sparecells.checks import are_different_below, check_lot, check_order, check_road
 from sparecells.errors import Refused
 from sparecells.lots import held
-from sparecells.masks import all_held, lot_of, mask_of, with_block, without_block
+from sparecells.masks import all_held, heights_to, lot_of, mask_of, with_block, without_block
 from sparecells.recipes import check_recipe
 
 
@@ -44,7 +44,7 @@ def height(recipe, lot, road):
 def least_height(recipe, lot, wider):
     """The least height of all roads from a lot to one around it."""
     _check_around(recipe, lot, wider)
-    return _heights(recipe, mask_of(wider))[mask_of(lot)]
+    return heights_to(all_held(recipe), mask_of(wider))[mask_of(lot)]
 
 
 def best_road(recipe, lot, wider):
@@ -52,7 +52,7 @@ def best_road(recipe, lot, wider):
     _check_around(recipe, lot, wider)
     mask = mask_of(lot)
     end = mask_of(wider)
-    heights = _heights(recipe, end)
+    heights = heights_to(all_held(recipe), end)
     least = heights[mask]
     road = []
     while mask != end:
@@ -61,16 +61,6 @@ def best_road(recipe, lot, wider):
         road.append(block)
         mask = with_block(mask, block)
     return road
-
-
-def _heights(recipe, end):
-    """The table of the least heights of the roads from lots within the lot of a mask to it."""
-    heights = all_held(recipe)
-    for mask in reversed(range(end)):
-        if mask & end == mask:
-            onward = [heights[with_block(mask, block)] for block in lot_of(end - mask)]
-            heights[mask] = max(heights[mask], min(onward))
-    return heights
 
 
 def is_best_road(recipe, lot, wider, value):

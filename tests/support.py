@@ -3,6 +3,7 @@ import random
 from itertools import combinations, permutations
 
 from sparecells import errors
+from sparecells.device import Device
 from sparecells.recipes import Recipe
 
 CHAIN = (3, [[0, 1], [1, 2], [2]])
@@ -96,7 +97,7 @@ def any_objects():
     deep = []
     for _ in range(39):
         deep = [deep]
-    return plain + lists + odd + other + own + [deep] + cell_objects() + row_objects()
+    return plain + lists + odd + other + own + [deep] + cell_objects() + row_objects() + device_objects()
 
 
 def cell_objects():
@@ -120,6 +121,27 @@ def row_objects():
     rows += [[[], [0], None], [[False], [0]], [[], [0], [0]], [[], [0], [-1, 0]], [[], [0], [0, 0]], [[], [[0]]]]
     rows += [[[], [0], [0, 1], [0, 1, 2]], [[], [0], [0, 2], [0, 1, 2]], [[], [2], [0], [0, 1], [0, 1, 2], [0, 1, 2]]]
     return rows + [[row] for row in rows] + [[[], [0], [1], [2]], [[0], []], [[1]], [[2], [2]], [[], [[]]]]
+
+
+def device_objects():
+    """Objects that are, or nearly are, devices, scripts, records or texts, moves, cuts or other recipes."""
+    device = Device(Recipe(1, [[0]]), 2)
+    things = [device, [device], device.trial(), Recipe(2, [[0, 1], [1]]), Recipe(9, [[0]]), Recipe(0, [[]] * 9)]
+    words = ["undo", "redo", "state", "is_done", "lot_there", "ways_on", "can_finish", "try", "done", "end", ""]
+    commands = [(word,) for word in words] + [("undo", 0), ("state", []), ("try", []), ("try", [("undo",)]),
+        ("try", ())]
+    commands += [("try", [("undo",), 0]), ("try", [], []), ("try", [("try", [("try", [("redo",)])])]), ["undo"]]
+    commands += [("try", [["undo"]]), ("lead", 1, 0), ("lead", 0, True), ("lead", 0, -1), ("lead", 0),
+        ("lead", None, [])]
+    commands += [("cut", ("copy", 0, 1)), ("cut", ["make", 0, 0]), ("cut", ("lead", 0, 1)), ("cut",), ("cut", 0, 1)]
+    commands += [("cut", "make", 0, 0), ("make", 0, 10 ** 29), ("cut", ("copy", 0, True)), ("cut", None), (0, 0, 0)]
+    scripts = [[command] for command in commands] + [[("make", 0, 1), ("cut", ("copy", 1, 0)), ("undo",)]]
+    texts = ["old 1\nneeds 0", "old 1", "old 1\nneeds 0\n", "old 01\nneeds 0", "old 1\nneeds", "old 1\nneeds 1", "-"]
+    texts += ["0 2\n-", "0 2\n-\n", "-\n\n-", "0 2 ", " 0", "00", "0  2", "2 0", "0 0", "- 0", "+1", "1_0", "-1", "\t0"]
+    texts += ["undo", "undo\n", "make 0 2\ntry\n  undo\nend", "try\nend", "try\n", "try\nundo\nend", "cut copy 0 1"]
+    texts += ["end", "try\n  try\n  end\nend", " undo", "undo ", "make 0  2", "make 00 2", "cut lead 0 1", "make 0"]
+    moves = [[(0, 1)], [(1, 0)], [(0, 2), (1, 0), (2, 1)], [[0, 1]], [(0,)], [(0, 1, 2)], [(True, False)], [(0, 99)]]
+    return things + commands + scripts + texts + moves
 
 
 class ErrorChecks:

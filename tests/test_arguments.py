@@ -3,11 +3,14 @@ import copy
 import inspect
 import unittest
 
-from sparecells import barriers, courses, errors, lots, orders, recipes, rests, straightening
+from sparecells import (
+    barriers, besides, courses, cuts, errors, lots, orders, papers, plans, profiles, recipes, rests, scripts,
+    straightening, windows)
 from sparecells.recipes import Recipe
 from tests.plain import (
-    is_below, is_plain_course, is_plain_deed, is_plain_lot, is_plain_order, is_plain_recipe, is_plain_road,
-    is_plain_row, is_plain_state, is_whole)
+    are_plain_cells, are_plain_lots, is_below, is_plain_course, is_plain_cuts, is_plain_deed, is_plain_lot,
+    is_plain_lots_text, is_plain_order, is_plain_recipe, is_plain_recipe_text, is_plain_road, is_plain_row,
+    is_plain_script, is_plain_script_text, is_plain_state, is_whole)
 from tests.support import CHAIN, TREE, ErrorChecks, any_objects, plain_held, plain_lots
 
 # The functions with the parameters of the interface; a parameter's kind stands behind a colon if it is not its name.
@@ -45,13 +48,53 @@ INTERFACE = {
         "states recipe cells course", "makes_image recipe cells course", "lacking recipe state", "lost recipe state",
         "lots_passed recipe cells course", "busiest recipe cells course",
     ],
+    cuts: [
+        "day recipe cells course cuts", "stands recipe cells course", "many_ends recipe cells course",
+        "worst_day recipe cells course", "spoiling recipe cells course", "is_spoiling recipe cells course value",
+        "can_lie recipe cells course cell", "sure_cells recipe cells course", "harmless recipe cells course",
+    ],
+    plans: [
+        "can_be recipe cells:some", "plan recipe cells:some", "is_plan recipe cells:some value",
+        "makes_by recipe cells:some order", "fewest_moves cells:some spots aims", "moves cells:some spots aims",
+        "is_moves cells:some spots aims value", "loose_makes recipe cells:some order",
+    ],
+    profiles: [
+        "down recipe bound", "up recipe bound", "down_lot recipe bound", "up_lot recipe bound",
+        "is_down_lot recipe bound value", "is_up_lot recipe bound value", "profile recipe",
+        "stand_alike one:recipe other:recipe", "third one:recipe other:recipe",
+        "is_third one:recipe other:recipe value", "leading_order recipe", "is_leading_order recipe value",
+    ],
+    besides: [
+        "sunk one:recipe other:recipe bound", "risen one:recipe other:recipe bound",
+        "full_width_beside one:recipe other:recipe", "profile_beside one:recipe other:recipe",
+        "shuffled one:recipe first:order other:recipe second:order",
+        "is_shuffled one:recipe first:order other:recipe second:order value",
+            "full_width_of_copies recipe many:positive",
+        "copy_step recipe",
+    ],
+    windows: [
+        "window size:positive before:count after:count", "window_width size:positive before:count after:count",
+        "window_order size:positive before:count after:count",
+        "window_prices size:positive before:count after:count order:straight",
+        "is_window_order size:positive before:count after:count value",
+    ],
+    papers: ["recipe_text recipe", "read_recipe text:recipe_text", "lots_text lots", "read_lots text:lots_text"],
+    # What changes a device or returns one has tests of its own.
+    scripts: [
+        "end_of recipe cells script", "shortened recipe cells script", "script_text script",
+        "read_script text:script_text",
+    ],
 }
 ERRORS = {
     "recipe": errors.InvalidRecipe, "new": errors.InvalidBlock, "old": errors.InvalidBlock, "lot": errors.InvalidLot,
     "order": errors.InvalidOrder, "size": errors.InvalidCount, "bound": errors.InvalidBound,
     "number": errors.InvalidCount, "wider": errors.InvalidLot, "road": errors.InvalidOrder, "row": errors.InvalidRow,
     "cells": errors.InvalidCells, "state": errors.InvalidContent, "deed": errors.InvalidDeed,
-    "course": errors.InvalidCourse,
+    "course": errors.InvalidCourse, "cuts": errors.InvalidCuts, "cell": errors.InvalidCell,
+    "some": errors.InvalidCells, "spots": errors.InvalidOrder, "aims": errors.InvalidOrder,
+    "positive": errors.InvalidCount, "count": errors.InvalidCount, "straight": errors.InvalidOrder,
+    "lots": errors.InvalidLots, "recipe_text": errors.InvalidText, "lots_text": errors.InvalidText,
+    "script": errors.InvalidScript, "script_text": errors.InvalidText,
 }
 # In the first one a block needs nothing and an old block is idle; the last one has no old block.
 PAIRS = [(4, [[0, 1], [1, 2], []]), CHAIN, TREE, (1, [[0]]), (0, [[], []])]
@@ -67,11 +110,13 @@ def functions():
 
 def fits(kind, ahead, thing):
     """Whether an object is of a kind behind the arguments ahead of it, judged apart from the package."""
-    if kind == "recipe":
-        return is_plain_recipe(thing)
-    recipe, last = ahead[0], ahead[-1]
+    known = [part for part in ahead if is_plain_recipe(part)]
+    # An order is one of the recipe that stands ahead of it.
+    recipe = known[-1] if known else Recipe(0, [[]])
     size = recipe.size()
+    last = ahead[-1] if ahead else None
     judges = {
+        "recipe": lambda: is_plain_recipe(thing),
         "value": lambda: True,
         "new": lambda: is_below(thing, size),
         "old": lambda: is_below(thing, recipe.many()),
@@ -87,6 +132,19 @@ def fits(kind, ahead, thing):
         "state": lambda: is_plain_state(recipe, thing),
         "deed": lambda: is_plain_deed(recipe, len(last), thing),
         "course": lambda: is_plain_course(recipe, last, thing),
+        "cuts": lambda: is_plain_cuts(last, thing),
+        "cell": lambda: is_below(thing, ahead[1]),
+        "some": lambda: is_whole(thing) and thing >= 1,
+        "spots": lambda: are_plain_cells(last, thing),
+        "aims": lambda: are_plain_cells(ahead[0], thing) and len(thing) == len(last),
+        "positive": lambda: is_whole(thing) and thing >= 1,
+        "count": lambda: is_whole(thing) and thing >= 0,
+        "straight": lambda: is_plain_order(ahead[0], thing),
+        "lots": lambda: are_plain_lots(thing),
+        "recipe_text": lambda: is_plain_recipe_text(thing),
+        "lots_text": lambda: is_plain_lots_text(thing),
+        "script": lambda: is_plain_script(thing),
+        "script_text": lambda: is_plain_script_text(thing),
     }
     return judges[kind]()
 
@@ -114,6 +172,19 @@ def good_things(kind, recipe):
         "state": [state, [None]],
         "deed": [("make", 0, many), ("make", size - 1, 0), ("copy", many + 1, many), ("copy", 0, 0)],
         "course": [[], [("make", 0, many)], [("make", 0, many), ("copy", many, many + 1)], [("copy", 0, 0)]],
+        "cuts": [[], [0, 0], [0, 1]],
+        "cell": [0, many + 1],
+        "some": [1, max(many, size), many + size + 1],
+        "spots": [[], [0], [1, 0], [2, 0, 1]],
+        "aims": [[], [1], [0], [0, 1], [2, 1], [0, 2, 1]],
+        "positive": [1, 3],
+        "count": [0, 1, 4],
+        "straight": [[0], [1, 0, 2]],
+        "lots": [[], [[]], [[0, 7], [], [10 ** 29]]],
+        "recipe_text": ["old 0\nneeds", f"old {many}\nneeds\nneeds"],
+        "lots_text": ["", "-", "0 7\n-"],
+        "script": [[], [("make", 0, many), ("try", [("undo",), ("cut", ("copy", 0, 1))]), ("state",), ("redo",)]],
+        "script_text": ["", "undo\ntry\n  ways_on\nend\ncut copy 0 1"],
     }
     return things[kind]
 
@@ -228,7 +299,7 @@ class WrongArgumentsTest(ErrorChecks, unittest.TestCase):
 
     def test_judges_raise_no_error_for_any_object(self):
         judges = [(function, kinds) for function, names, kinds in functions() if names[-1] == "value"]
-        self.assertEqual(len(judges), 3 + 2 + 1 + 3 + 2)
+        self.assertEqual(len(judges), 3 + 2 + 1 + 3 + 2 + 1 + 2 + 4 + 1 + 1)
         for judge, kinds in judges:
             for call in [call for pair in PAIRS for call in good_calls(kinds[:-1], Recipe(*pair))]:
                 for thing in any_objects():

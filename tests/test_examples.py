@@ -15,15 +15,6 @@ tree = Recipe(5, [[0, 1, 2], [3, 4], [0], [3]])
 # [[1, 3], [1, 2], 6, 5, [[0], [0, 1], [1, 2]], 4, [2, 1, 0]]
 '''
 
-# Of the examples of section 12 those lines that need no more than recipes and orders.
-CELLS = '''
-from sparecells.orders import lasting_cells, least_cells
-from sparecells.recipes import Recipe
-one, other = Recipe(1, [[0], []]), Recipe(1, [[0], [0]])
-[least_cells(one), least_cells(other), lasting_cells(one), lasting_cells(other)]
-# [2, 3, 3, 3]
-'''
-
 RESTS = '''
 from sparecells.barriers import barrier, border, is_barrier, reached, stuck_lots, way_to
 from sparecells.recipes import Recipe
@@ -61,6 +52,84 @@ swap = Recipe(2, [[1], [0]])
 # [True, [1, 0]]
 '''
 
+CUTS = r'''
+from sparecells.cuts import can_lie, day, harmless, is_spoiling, many_ends, spoiling, stands, worst_day
+from sparecells.recipes import Recipe
+swap = Recipe(2, [[1], [0]])
+both = [("make", 0, 1), ("make", 1, 0)]
+[day(swap, 2, both, []), day(swap, 2, both, [0]), stands(swap, 2, both), many_ends(swap, 2, both), is_spoiling(swap, 2, both, spoiling(swap, 2, both)), can_lie(swap, 2, both, 0), worst_day(swap, 2, both)]
+# [[('new', 1), ('new', 0)], [('new', 1), None], False, 4, True, [None, ('new', 1)], [None, None]]
+twice = [("copy", 0, 1), ("copy", 0, 0), ("make", 0, 1), ("copy", 1, 0)]
+[harmless(Recipe(2, [[0]]), 2, twice), spoiling(Recipe(2, [[0]]), 2, twice), stands(swap, 3, [("make", 0, 2), ("make", 1, 1), ("copy", 2, 0)])]
+# [[0, 1, 2, 3], [1, 2], True]
+'''
+
+PLANS = r'''
+from sparecells.plans import can_be, fewest_moves, is_moves, is_plan, loose_makes, makes_by, plan
+from sparecells.recipes import Recipe
+swap = Recipe(2, [[1], [0]])
+[can_be(swap, 2), is_plan(swap, 3, plan(swap, 3)), makes_by(swap, 3, [0, 1]), loose_makes(swap, 2, [0, 1])]
+# [False, True, [('make', 0, 2), ('make', 1, 1)], [('make', 0, 1), ('make', 1, 0)]]
+[fewest_moves(3, [0, 1], [1, 0]), is_moves(3, [0, 1], [1, 0], [(0, 2), (1, 0), (2, 1)])]
+# [3, True]
+'''
+
+PROFILES = r'''
+from sparecells.orders import lasting_cells, least_cells
+from sparecells.profiles import down, is_leading_order, is_third, leading_order, profile, stand_alike, third, up
+from sparecells.recipes import Recipe, beside, turned
+steep = Recipe(3, [[0, 1, 2], [0, 1, 2]])
+swap = Recipe(2, [[1], [0]])
+[profile(steep), profile(swap), profile(beside(steep, swap)), down(steep, 2), down(steep, 3), down(steep, 4), up(steep, 4)]
+# [([(3, 3), (4, 2)], [(2, 2)], 4), ([(2, 2)], [(2, 2)], 2), ([(5, 5), (6, 4)], [(4, 4)], 6), None, 3, 2, 2]
+[stand_alike(swap, Recipe(3, [[0], [2]])), stand_alike(steep, swap), is_third(steep, swap, third(steep, swap)), profile(turned(steep))]
+# [True, False, True, ([(2, 2)], [(3, 3), (4, 2)], 4)]
+one, other = Recipe(1, [[0], []]), Recipe(1, [[0], [0]])
+[stand_alike(one, other), least_cells(one), least_cells(other), lasting_cells(one), lasting_cells(other)]
+# [True, 2, 3, 3, 3]
+[is_leading_order(Recipe(2, [[], [0, 1], []]), [0, 1, 2]), leading_order(Recipe(2, [[], [0, 1], []]))[0], profile(Recipe(2, [[], [0, 1], []]))]
+# [False, 1, ([(2, 1)], [(3, 1)], 3)]
+'''
+
+BESIDES = r'''
+from sparecells.besides import copy_step, full_width_beside, full_width_of_copies, is_shuffled, profile_beside, risen, shuffled, sunk
+from sparecells.recipes import Recipe
+steep, swap = Recipe(3, [[0, 1, 2], [0, 1, 2]]), Recipe(2, [[1], [0]])
+[sunk(steep, swap, 5), sunk(steep, swap, 6), risen(steep, swap, 5), full_width_beside(steep, swap), profile_beside(steep, swap)]
+# [(3, 2), (2, 2), (2, 2), 6, ([(5, 5), (6, 4)], [(4, 4)], 6)]
+[[full_width_of_copies(steep, many) for many in (1, 2, 3, 100)], copy_step(steep), is_shuffled(steep, [0, 1], swap, [1, 0], shuffled(steep, [0, 1], swap, [1, 0])), is_shuffled(steep, [0, 1], swap, [1, 0], [0, 1, 3, 2])]
+# [[4, 7, 10, 301], 3, True, True]
+'''
+
+PAPERS = r'''
+from sparecells.papers import lots_text, read_lots, read_recipe, recipe_text
+from sparecells.recipes import Recipe
+from sparecells.windows import is_window_order, window, window_order, window_width
+[window(4, 1, 0).needs(), window_width(4, 1, 0), window_order(3, 1, 0), window_width(50, 3, 2), is_window_order(50, 3, 2, window_order(50, 3, 2))]
+# [[[0], [0, 1], [1, 2], [2, 3]], 4, [2, 1, 0], 52, True]
+[recipe_text(Recipe(2, [[0, 1], []])), read_recipe("old 1\nneeds 0") == Recipe(1, [[0]]), lots_text([[0, 2], []]), read_lots("")]
+# ['old 2\nneeds 0 1\nneeds', True, '0 2\n-', []]
+'''
+
+DEVICE = r'''
+from sparecells.device import Device
+from sparecells.recipes import Recipe
+device = Device(Recipe(2, [[1], [0]]), 3)
+[device.make(0, 2), device.cut(("make", 1, 1)), device.state(), device.done(), device.ways_on(), device.can_finish(), device.is_plan_on(device.plan_on())]
+# [None, None, [('old', 0), None, ('new', 0)], 1, [[0]], True, True]
+'''
+
+SCRIPTS = r'''
+from sparecells.device import Device
+from sparecells.recipes import Recipe
+from sparecells.scripts import play, script_text, shortened
+swap = Recipe(2, [[1], [0]])
+play(Device(swap, 3), [("make", 0, 1), ("make", 0, 2), ("cut", ("copy", 2, 0)), ("lot_there",), ("can_finish",), ("undo",), ("can_finish",)])
+# [('refused', 'Refused'), ('done',), ('done',), ('told', [0]), ('told', False), ('done',), ('told', True)]
+[script_text([("make", 0, 2), ("try", [("cut", ("make", 1, 1)), ("undo",)])]), shortened(swap, 3, [("make", 0, 2), ("lead", 2, 1), ("make", 0, 2)])]
+# ['make 0 2\ntry\n  cut make 1 1\n  undo\nend', [('make', 0, 2), ('lead', 2, 1)]]
+'''
+
 
 class ExamplesTest(unittest.TestCase):
     def check(self, text):
@@ -78,9 +147,6 @@ class ExamplesTest(unittest.TestCase):
     def test_orders(self):
         self.check(ORDERS)
 
-    def test_cells(self):
-        self.check(CELLS)
-
     def test_rests(self):
         self.check(RESTS)
 
@@ -89,3 +155,24 @@ class ExamplesTest(unittest.TestCase):
 
     def test_straightening(self):
         self.check(STRAIGHTENING)
+
+    def test_cuts(self):
+        self.check(CUTS)
+
+    def test_plans(self):
+        self.check(PLANS)
+
+    def test_profiles(self):
+        self.check(PROFILES)
+
+    def test_besides(self):
+        self.check(BESIDES)
+
+    def test_papers(self):
+        self.check(PAPERS)
+
+    def test_device(self):
+        self.check(DEVICE)
+
+    def test_scripts(self):
+        self.check(SCRIPTS)
