@@ -1,7 +1,7 @@
 """Points [52] to [56]: ordinary inputs and edges."""
 import random
 import unittest
-from itertools import permutations
+from itertools import combinations, combinations_with_replacement, permutations
 
 from sparecells import errors
 from sparecells.orders import full_width, is_order
@@ -220,14 +220,19 @@ class ThirdTest(ErrorChecks, unittest.TestCase):
             widths = [full_width(beside(part, beyond)) for part in (one, other)]
             self.assertIs(is_third(one, other, beyond), widths[0] != widths[1])
 
-    def test_thirds_of_four_blocks(self):
-        chance = random.Random(56)
-        for _ in range(60):
-            one, other = (Recipe(4, some_needs(chance, 4, chance.randint(1, 4))) for _ in range(2))
+    def test_all_profiles_of_recipes_of_four_blocks(self):
+        kinds = {}
+        for many in range(5):
+            rows = [list(row) for size in range(many + 1) for row in combinations(range(many), size)]
+            for size in range(1, 5):
+                for needs in combinations_with_replacement(rows, size):
+                    recipe = Recipe(many, list(needs))
+                    kinds.setdefault(repr(profile(recipe)), recipe)
+        self.assertGreater(len(kinds), 50)
+        for one, other in combinations(kinds.values(), 2):
             told = third(one, other)
-            self.assertEqual(told is None, profile(one) == profile(other))
-            if told is not None:
-                self.assertIs(is_third(one, other, told), True)
+            self.assertLessEqual(max(told.many(), told.size()), 8)
+            self.assertIs(is_third(one, other, told), True)
 
     def test_thirds_that_are_too_great(self):
         one, other = Recipe(1, [[0]]), Recipe(3, [[0, 1, 2]])
